@@ -47,11 +47,69 @@ func TestP1EveryCallEnds(t *testing.T) {
 }
 
 func TestP1RunEnds(t *testing.T) {
-	db := New()
-	for _, text := range wildTexts() {
-		answer, errno, _ := db.Run(text)
-		if errno != api.OK && (answer.Count != 0 || len(answer.Columns) != 0 || len(answer.Kinds) != 0 || len(answer.Rows) != 0) {
+	db := opened(t)
+	for _, text := range append(wildTexts(), greatTexts(t, db)...) {
+		answer, errno, place := db.Run(text)
+		if errno != api.OK && (answer.Count != 0 || answer.Columns != nil || answer.Kinds != nil || answer.Rows != nil) {
 			t.Errorf("P1: Run(%.80q) = %v beside the error %d", text, answer, errno)
 		}
+		reading := errno == api.ErrText || errno == api.ErrDeep
+		if place < 0 || place > min(len(text), api.MaxText) || !reading && place != 0 {
+			t.Errorf("P1: Run(%.80q) has the place %d beside the error %d", text, place, errno)
+		}
+	}
+}
+
+// greatTexts are texts near all limits at once.
+func greatTexts(t *testing.T, db *DB) []string {
+	filled(t, db, "k", api.MaxRows)
+	filled(t, db, "v", api.MaxMade/api.MaxRows)
+	return []string{
+		"SELECT k.n" + times(1300, "+n") + " FROM k",
+		"SELECT k.n FROM k JOIN v ON v.n" + times(480, "*v.n-k.n") + " = 1",
+		"SELECT 1 FROM k, v WHERE NOT v.n IS NULL" + times(300, " OR k.n = 7"),
+		"SELECT *FROM k,v WHERE FALSE" + times(100, " UNION SELECT*FROM k,v WHERE k.n<0"),
+		"SELECT *FROM k" + times(180, " UNION SELECT*FROM k"),
+		"SELECT " + repeated(16, "'"+times(200, "x")+"'||s") + " FROM k, t WHERE t.n = 1",
+		"SELECT 1 FROM " + repeated(1300, "k"),
+		"SELECT a FROM " + repeated(1300, "e"),
+		"INSERT INTO e VALUES " + repeated(400, "(1, 2)"),
+		"INSERT INTO e VALUES (1, 1" + times(1900, "-1") + ")",
+		"CREATE TABLE z(" + columnList(400) + ")",
+	}
+}
+
+// A database that ran wrong texts, too, answers like one that never did.
+func TestP1NothingIsChangedBesideAnError(t *testing.T) {
+	q := &queryMaker{newMaker(11), model{}}
+	both, right := New(), New()
+	refused := 0
+	for range 1500 {
+		text := q.sentence()
+		q.model.run(text)
+		shown := shownRun(both, text)
+		if strings.HasPrefix(shown, "error") {
+			refused++
+			continue
+		}
+		if got := shownRun(right, text); got != shown {
+			t.Fatalf("P1: Run(%q) = %.300s, without the wrong texts %.300s", text, shown, got)
+		}
+	}
+	if refused < 250 {
+		t.Errorf("only %d texts are wrong", refused)
+	}
+}
+
+func TestP1NothingIsChangedByHand(t *testing.T) {
+	db := opened(t)
+	e, s := "a:1,b:1|1,2|2,3|3,1", "n:1,s:2,f:3|null,'b',false|1,'one',true|2,null,null"
+	for _, text := range []string{"CREATE TABLE e(x TEXT)", "CREATE TABLE u(x INT, x INT)", "CREATE TABLE u(" + columnList(17) + ")", "CREATE TABLE u(x INT", "INSERT INTO e VALUES (7, 7), (7)", "INSERT INTO e VALUES (7, 7), (7, 'a')", "INSERT INTO e VALUES (7, 7), (7, x)", "INSERT INTO e VALUES (7, 7), (7, 7 / 0)", "INSERT INTO e VALUES (7, 7) (7, 7)", "INSERT INTO t VALUES (7, 'a', TRUE), (7, '" + times(251, "x") + "' || '', TRUE)", "SELECT 1 / 0 FROM e", "SELECT x FROM e"} {
+		if got := shownRun(db, text); !strings.HasPrefix(got, "error") {
+			t.Errorf("P1: Run(%.80q) = %s, want an error", text, got)
+		}
+		wantAnswer(t, db, "SELECT * FROM e", e)
+		wantAnswer(t, db, "SELECT * FROM t", s)
+		wantErrno(t, db, api.ErrName, "SELECT * FROM u")
 	}
 }

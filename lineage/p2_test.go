@@ -1,6 +1,8 @@
 package lineage
 
 import (
+	"fmt"
+	"slices"
 	"strings"
 	"sync"
 	"testing"
@@ -51,5 +53,135 @@ func TestP2NewMemory(t *testing.T) {
 		if unsafe.StringData(plain) == unsafe.StringData(text) {
 			t.Errorf("P2: Print(%q) answers the memory of its argument", text)
 		}
+	}
+}
+
+// Databases that ran the same texts answer alike, side by side too.
+func TestP2RunHangsOnTheTextsAlone(t *testing.T) {
+	q := &queryMaker{newMaker(12), model{}}
+	var texts, first []string
+	db := New()
+	for range 1000 {
+		text := q.sentence()
+		q.model.run(text)
+		texts = append(texts, text)
+		first = append(first, shownRun(db, text))
+	}
+	var group sync.WaitGroup
+	for range 4 {
+		group.Go(func() {
+			other := New()
+			for i, text := range texts {
+				if again := shownRun(other, text); again != first[i] {
+					t.Errorf("P2: Run(%.80q) = %.300s, ahead of that %.300s", text, again, first[i])
+				}
+			}
+		})
+	}
+	group.Wait()
+}
+
+// Calls at the same time come one behind the other: none is lost.
+func TestP2CallsAtTheSameTime(t *testing.T) {
+	db := opened(t)
+	var group sync.WaitGroup
+	for caller := range 8 {
+		group.Go(func() {
+			for i := range 300 {
+				wantAnswer(t, db, fmt.Sprintf("CREATE TABLE t_%d_%d(x INT)", caller, i), "0")
+			}
+			for range 20 {
+				wantAnswer(t, db, "INSERT INTO e VALUES (9, 9), (9, 9)", "2")
+				if answer, errno, _ := db.Run("SELECT a FROM e WHERE a = 9"); errno != api.OK || len(answer.Rows)%2 != 0 {
+					t.Errorf("P2: %d rows, %d", len(answer.Rows), errno)
+				}
+			}
+		})
+	}
+	group.Wait()
+	for caller := range 8 {
+		for i := range 300 {
+			wantAnswer(t, db, fmt.Sprintf("SELECT * FROM t_%d_%d", caller, i), "x:1")
+		}
+	}
+	answer, errno, _ := db.Run("SELECT * FROM e")
+	if errno != api.OK || len(answer.Rows) != 3+8*20*2 {
+		t.Errorf("P2: %d rows, %d", len(answer.Rows), errno)
+	}
+}
+
+// soil writes into all lists of an answer, and into their spare room.
+func soil(answer api.Answer) {
+	mark := api.Value{Kind: 9, Int: 9, Text: "soiled", Bool: true}
+	for _, row := range answer.Rows[:cap(answer.Rows)] {
+		for i := range row[:cap(row)] {
+			row[:cap(row)][i] = mark
+		}
+	}
+	for i := range answer.Rows[:cap(answer.Rows)] {
+		answer.Rows[:cap(answer.Rows)][i] = []api.Value{mark}
+	}
+	for i := range answer.Columns[:cap(answer.Columns)] {
+		answer.Columns[:cap(answer.Columns)][i] = "soiled"
+	}
+	for i := range answer.Kinds[:cap(answer.Kinds)] {
+		answer.Kinds[:cap(answer.Kinds)][i] = 9
+	}
+}
+
+func TestP2AnswersAreTheCallers(t *testing.T) {
+	db := opened(t)
+	for _, text := range []string{"SELECT * FROM e", "SELECT * FROM t", "SELECT n, s FROM t UNION SELECT n, s FROM t", "SELECT n FROM t UNION ALL SELECT n FROM t", "SELECT 'a' AS x, 1 FROM e, t", "SELECT x.s, y.s FROM t AS x, t AS y UNION SELECT s, s FROM t UNION ALL SELECT NULL || '', 'x'"} {
+		want := shownRun(db, text)
+		one, _, _ := db.Run(text)
+		other, _, _ := db.Run(text)
+		soil(one)
+		if got := shownAnswer(other); got != want {
+			t.Errorf("P2: Run(%q) = %s behind a written answer, want %s", text, got, want)
+		}
+		soil(other)
+		wantAnswer(t, db, text, want)
+	}
+}
+
+// No two rows of an answer share room, behind their ends neither.
+func TestP2ListsShareNoRoom(t *testing.T) {
+	db := opened(t)
+	for _, text := range []string{"SELECT 1, 2 FROM e, t", "SELECT * FROM e UNION ALL SELECT * FROM e", "SELECT s, n, f FROM t UNION SELECT s, n, f FROM t", "SELECT a FROM e"} {
+		answer, _, _ := db.Run(text)
+		want := shownAnswer(answer)
+		for i, row := range answer.Rows {
+			before := slices.Clone(row)
+			for k := range row[:cap(row)] {
+				row[:cap(row)][k] = api.Value{Kind: api.Int, Int: 99}
+			}
+			copy(row, before)
+			if got := shownAnswer(answer); got != want {
+				t.Fatalf("P2: Run(%q): behind row %d lies another list: %s", text, i, got)
+			}
+			row[0] = api.Value{Kind: answer.Kinds[0]}
+			answer.Rows[i] = slices.Clone(before)
+			if got := shownAnswer(answer); got != want {
+				t.Fatalf("P2: Run(%q): row %d is another row, too: %s", text, i, got)
+			}
+		}
+	}
+}
+
+// What is kept is no part of the text that was handed in.
+func TestP2NothingOfTheTextIsKept(t *testing.T) {
+	db := New()
+	bytes := []byte("CREATE TABLE name(column INT, other TEXT)")
+	db.Run(unsafe.String(&bytes[0], len(bytes)))
+	clear(bytes)
+	bytes = []byte("INSERT INTO name VALUES (1, 'kept')")
+	db.Run(unsafe.String(&bytes[0], len(bytes)))
+	clear(bytes)
+	wantAnswer(t, db, "SELECT * FROM name", "column:1,other:2|1,'kept'")
+	bytes = []byte("SELECT column AS alias, 'text' FROM name")
+	answer, _, _ := db.Run(unsafe.String(&bytes[0], len(bytes)))
+	clear(bytes)
+	if got := shownAnswer(answer); got != "alias:1,:2|1,'text'" {
+		t.Errorf("P2: the answer has memory of its text: %s", got)
 	}
 }
