@@ -2,6 +2,7 @@
 package check
 
 import (
+	"cmp"
 	"slices"
 
 	"lineage/api"
@@ -16,6 +17,7 @@ type Tables map[string]*work.Table
 // have the order of the checks, and no caller need look whether one went well.
 type checker struct {
 	tables Tables
+	parts  Tables // what the names of the parts so far stand for
 	errno  api.Errno
 }
 
@@ -25,9 +27,10 @@ func (c *checker) must(hold bool, errno api.Errno) {
 	}
 }
 
-// table stands in with an empty one, if there is no such table.
+// table is the part or else the table of this name; an empty one stands in, if
+// there is neither.
 func (c *checker) table(name string) *work.Table {
-	table := c.tables[name]
+	table := cmp.Or(c.parts[name], c.tables[name])
 	c.must(table != nil, api.ErrName)
 	if table == nil {
 		return &work.Table{}
@@ -78,12 +81,16 @@ func (c *checker) row(row []tree.Expr, columns []tree.Column) []work.Expr {
 	return exprs
 }
 
-// Query checks a query without parts.
+// Query checks a query: its parts in their order, then its body.
 func Query(tables Tables, query tree.Query) (work.Query, api.Errno) {
-	c := &checker{tables: tables}
+	c := &checker{tables: tables, parts: Tables{}}
+	var parts []work.Part
+	for _, part := range query.Parts {
+		parts = append(parts, c.part(part, query.Recursive))
+	}
 	body, columns := c.body(query.Body)
 	if c.errno != api.OK {
 		return work.Query{}, c.errno
 	}
-	return work.Query{Columns: columns, Body: body}, api.OK
+	return work.Query{Parts: parts, Columns: columns, Body: body}, api.OK
 }

@@ -14,7 +14,7 @@ func (c *checker) expr(expr tree.Expr, sources []source) (work.Expr, int) {
 	case tree.Binary:
 		left, leftKind := c.expr(e.Left, sources)
 		right, rightKind := c.expr(e.Right, sources)
-		return work.Binary{Op: e.Op, Left: left, Right: right}, c.operation(e.Op, leftKind, rightKind)
+		return &work.Binary{Op: e.Op, Left: left, Right: right}, c.operation(e.Op, leftKind, rightKind)
 	case tree.Prefixed:
 		operand, kind := c.expr(e.Operand, sources)
 		return prefixed(e.Op, operand), c.operation(e.Op, kind)
@@ -22,27 +22,27 @@ func (c *checker) expr(expr tree.Expr, sources []source) (work.Expr, int) {
 		operand, _ := c.expr(e.Operand, sources)
 		return isNull(operand, e.Not), api.Bool
 	case tree.Literal:
-		return work.Literal{Value: e.Value}, e.Value.Kind
+		return &work.Literal{Value: e.Value}, e.Value.Kind
 	case tree.Reference:
 		return c.reference(e, sources)
 	}
-	return work.Literal{}, api.Null
+	return &work.Literal{}, api.Null
 }
 
 // prefixed has a - as the document explains it: 0 less the operand.
 func prefixed(op words.Kind, operand work.Expr) work.Expr {
 	if op == words.Not {
-		return work.Not{Operand: operand}
+		return &work.Not{Operand: operand}
 	}
-	zero := work.Literal{Value: api.Value{Kind: api.Int}}
-	return work.Binary{Op: words.Minus, Left: zero, Right: operand}
+	zero := &work.Literal{Value: api.Value{Kind: api.Int}}
+	return &work.Binary{Op: words.Minus, Left: zero, Right: operand}
 }
 
 func isNull(operand work.Expr, not bool) work.Expr {
 	if not {
-		return work.Not{Operand: work.IsNull{Operand: operand}}
+		return &work.Not{Operand: &work.IsNull{Operand: operand}}
 	}
-	return work.IsNull{Operand: operand}
+	return &work.IsNull{Operand: operand}
 }
 
 // operation asks whether operands of these kinds are such as the operation
@@ -77,21 +77,21 @@ func fits(kind, wanted int) bool {
 }
 
 func (c *checker) reference(reference tree.Reference, sources []source) (work.Expr, int) {
-	var found []work.Column
+	var found []*work.Column
 	kind := api.Null
 	for i, source := range sources {
 		if reference.Source != "" && reference.Source != source.name {
 			continue
 		}
-		if k := columnOf(source.columns, reference.Column); k >= 0 {
-			found = append(found, work.Column{Source: i, Column: k})
-			kind = source.columns[k].Kind
+		if k := columnOf(source.table.Columns, reference.Column); k >= 0 {
+			found = append(found, &work.Column{Table: source.table, Source: i, Column: k})
+			kind = source.table.Columns[k].Kind
 		}
 	}
 	c.must(len(found) > 0, api.ErrName)
 	c.must(len(found) < 2, api.ErrTwice)
 	if len(found) == 0 {
-		return work.Literal{}, kind
+		return &work.Literal{}, kind
 	}
 	return found[0], kind
 }

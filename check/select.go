@@ -11,21 +11,26 @@ import (
 
 // source is a source by the name that it has in its select.
 type source struct {
-	name    string
-	columns []tree.Column
+	name  string
+	table *work.Table
 }
 
 // body answers the columns of its first select, too, which are its own.
 func (c *checker) body(body tree.Body) (work.Body, []tree.Column) {
 	first, columns := c.selection(body.First)
-	checked := work.Body{First: first}
-	for _, union := range body.Unions {
+	return work.Body{First: first, Unions: c.unions(body.Unions, columns)}, columns
+}
+
+// unions checks what is united with a first select of these columns.
+func (c *checker) unions(unions []tree.Union, columns []tree.Column) []work.Union {
+	var checked []work.Union
+	for _, union := range unions {
 		selection, others := c.selection(union.Select)
 		c.must(len(others) == len(columns), api.ErrShape)
 		c.must(slices.EqualFunc(columns, others, sameKind), api.ErrType)
-		checked.Unions = append(checked.Unions, work.Union{All: union.All, Select: selection})
+		checked = append(checked, work.Union{All: union.All, Select: selection})
 	}
-	return checked, columns
+	return checked
 }
 
 func sameKind(a, b tree.Column) bool {
@@ -41,7 +46,7 @@ func (c *checker) selection(selection tree.Select) (work.Select, []tree.Column) 
 		table := c.table(next.Name)
 		name := cmp.Or(next.As, next.Name)
 		c.must(!isNamed(sources, name), api.ErrTwice)
-		sources = append(sources, source{name, table.Columns})
+		sources = append(sources, source{name, table})
 		on := c.condition(next.On, sources)
 		checked.Sources = append(checked.Sources, work.Source{Table: table, On: on})
 	}
@@ -76,8 +81,8 @@ func allColumns(sources []source) ([]work.Expr, []tree.Column) {
 	var exprs []work.Expr
 	var columns []tree.Column
 	for i, source := range sources {
-		for k, column := range source.columns {
-			exprs = append(exprs, work.Column{Source: i, Column: k})
+		for k, column := range source.table.Columns {
+			exprs = append(exprs, &work.Column{Table: source.table, Source: i, Column: k})
 			columns = append(columns, column)
 		}
 	}

@@ -82,11 +82,7 @@ func (db *DB) insert(insert tree.Insert) (api.Answer, api.Errno) {
 	return api.Answer{Count: len(rows)}, api.OK
 }
 
-// query answers nothing to a query with parts, so far.
 func (db *DB) query(query tree.Query) (api.Answer, api.Errno) {
-	if len(query.Parts) > 0 {
-		return api.Answer{}, api.OK
-	}
 	checked, errno := check.Query(db.tables, query)
 	if errno != api.OK {
 		return api.Answer{}, errno

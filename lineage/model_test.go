@@ -2,6 +2,7 @@ package lineage
 
 import (
 	"fmt"
+	"maps"
 	"math/big"
 	"slices"
 	"strings"
@@ -14,7 +15,7 @@ import (
 )
 
 // model does what the document says, step by step and by names alone, without
-// any regard to time: what Run answers is held against it. It knows no parts.
+// any regard to time: what Run answers is held against it.
 type model map[string]*modelTable
 
 type modelTable struct {
@@ -219,23 +220,19 @@ func keysOf(row []api.Value) []string {
 	return keys
 }
 
+// query has models of its own, in which a part is a table too: one where the
+// parts are checked, and one where they are worked out behind that.
 func (m model) query(query tree.Query) api.Answer {
-	columns := m.checked(query.Body.First)
-	for _, union := range query.Body.Unions {
-		others := m.checked(union.Select)
-		unless(len(others) == len(columns), api.ErrShape)
-		for i := range others {
-			unless(others[i].Kind == columns[i].Kind, api.ErrType)
-		}
+	checking, working := maps.Clone(m), maps.Clone(m)
+	for i, part := range query.Parts {
+		checking.checkPart(part, query.Parts[:i], query.Recursive)
 	}
-	rows := m.rows(query.Body.First)
-	for _, union := range query.Body.Unions {
-		rows = append(rows, m.rows(union.Select)...)
-		if !union.All {
-			rows = firsts(rows)
-		}
-		unless(len(rows) <= 1000, api.ErrMany)
+	columns := checking.checkBody(query.Body)
+	for _, part := range query.Parts {
+		made := checking[part.Name].columns
+		working[part.Name] = &modelTable{made, working.partRows(part, query.Recursive, made)}
 	}
+	rows := working.bodyRows(query.Body)
 	slices.SortFunc(rows, func(a, b []api.Value) int { return slices.Compare(keysOf(a), keysOf(b)) })
 	var answer api.Answer
 	for _, column := range columns {
@@ -244,6 +241,105 @@ func (m model) query(query tree.Query) api.Answer {
 	}
 	answer.Rows = rows
 	return answer
+}
+
+func (m model) checkPart(part tree.Part, ahead []tree.Part, recursive bool) {
+	for _, other := range ahead {
+		unless(other.Name != part.Name, api.ErrTwice)
+	}
+	names := map[string]int{}
+	for _, name := range part.Columns {
+		names[name]++
+		unless(names[name] == 1, api.ErrTwice)
+	}
+	unless(len(part.Columns) <= 16, api.ErrShape)
+	if !recursive || !slices.ContainsFunc(timesOf(part), func(n int) bool { return n > 0 }) {
+		m[part.Name] = partTable(part, m.checkBody(part.Body))
+		return
+	}
+	unless(slices.Equal(timesOf(part), []int{0, 1}), api.ErrLinear)
+	m[part.Name] = partTable(part, m.checked(part.Body.First))
+	m.checkBody(part.Body)
+}
+
+// timesOf tells of each select of a part how often it speaks of the part.
+func timesOf(part tree.Part) []int {
+	var times []int
+	for _, s := range selectsOf(part.Body) {
+		n := 0
+		for _, source := range s.Sources {
+			if source.Name == part.Name {
+				n++
+			}
+		}
+		times = append(times, n)
+	}
+	return times
+}
+
+func selectsOf(body tree.Body) []tree.Select {
+	selects := []tree.Select{body.First}
+	for _, union := range body.Unions {
+		selects = append(selects, union.Select)
+	}
+	return selects
+}
+
+func partTable(part tree.Part, columns []tree.Column) *modelTable {
+	unless(len(columns) == len(part.Columns), api.ErrShape)
+	table := &modelTable{}
+	for i, column := range columns {
+		table.columns = append(table.columns, tree.Column{Name: part.Columns[i], Kind: column.Kind})
+	}
+	return table
+}
+
+func (m model) checkBody(body tree.Body) []tree.Column {
+	columns := m.checked(body.First)
+	for _, union := range body.Unions {
+		others := m.checked(union.Select)
+		unless(len(others) == len(columns), api.ErrShape)
+		for i := range others {
+			unless(others[i].Kind == columns[i].Kind, api.ErrType)
+		}
+	}
+	return columns
+}
+
+func (m model) bodyRows(body tree.Body) [][]api.Value {
+	rows := m.rows(body.First)
+	for _, union := range body.Unions {
+		rows = append(rows, m.rows(union.Select)...)
+		if !union.All {
+			rows = firsts(rows)
+		}
+		unless(len(rows) <= 1000, api.ErrMany)
+	}
+	return rows
+}
+
+func (m model) partRows(part tree.Part, recursive bool, columns []tree.Column) [][]api.Value {
+	if !recursive || !slices.Equal(timesOf(part), []int{0, 1}) {
+		return m.bodyRows(part.Body)
+	}
+	union := part.Body.Unions[0]
+	all := m.rows(part.Body.First)
+	if !union.All {
+		all = firsts(all)
+	}
+	fresh := all
+	for round := 1; len(fresh) > 0; round++ {
+		unless(round <= 200, api.ErrRounds)
+		within := maps.Clone(m)
+		within[part.Name] = &modelTable{columns, fresh}
+		both := slices.Concat(all, within.rows(union.Select))
+		if !union.All {
+			both = firsts(both)
+		}
+		unless(len(both) <= 1000, api.ErrMany)
+		all, fresh = both, both[len(all):]
+	}
+	return all
 }
 
 func firsts(rows [][]api.Value) [][]api.Value {
@@ -351,166 +447,13 @@ func stay(rows [][]named, condition tree.Expr) [][]named {
 	return left
 }
 
-// queryMaker makes texts that are mostly right ones for the tables of the model.
-type queryMaker struct {
-	*maker
-	model model
-}
-
-func (q *queryMaker) one(choices ...string) string {
-	return choices[q.Intn(len(choices))]
-}
-
-func (q *queryMaker) sentence() string {
-	switch q.Intn(12) {
-	case 0:
-		columns := q.one("a INT, b INT", "n INT, s TEXT, f BOOL", "a INT, s TEXT", "f BOOL, a INT, b BOOL", "a INT, a INT", columnList(q.Intn(20)+1))
-		return "CREATE TABLE " + q.one("e", "t", "u", "v", "w") + "(" + columns + ")"
-	case 1, 2, 3:
-		return q.insert()
-	}
-	return q.query()
-}
-
-func (q *queryMaker) insert() string {
-	name := q.one("e", "t", "u", "v", "w")
-	var rows []string
-	for range 1 + q.Intn(4) {
-		var row []string
-		if table := q.model[name]; table != nil {
-			for _, column := range table.columns {
-				row = append(row, q.expr(column.Kind, 2, nil))
-			}
-		}
-		if len(row) == 0 || q.Intn(60) == 0 {
-			row = append(row, q.expr(api.Int, 1, nil))
-		}
-		rows = append(rows, "("+strings.Join(row, ", ")+")")
-	}
-	return "INSERT INTO " + name + " VALUES " + strings.Join(rows, ", ")
-}
-
-func (q *queryMaker) query() string {
-	kinds := []int{api.Int, 1 + q.Intn(3), 1 + q.Intn(3)}[:1+q.Intn(3)]
-	text := q.selection(kinds)
-	for q.Intn(3) == 0 {
-		if q.Intn(30) == 0 {
-			kinds = append(kinds, api.Int)
-		}
-		text += q.one(" UNION ", " UNION ALL ") + q.selection(kinds)
-	}
-	return text
-}
-
-func (q *queryMaker) selection(kinds []int) string {
-	var columns []named
-	from := ""
-	for i := range q.Intn(4) {
-		source := tree.Source{Name: q.one("e", "t", "u", "v", "e", "t", "u", "w")}
-		ahead := q.one(", ", " JOIN ")
-		if i == 0 {
-			ahead = " FROM "
-		}
-		from += ahead + source.Name
-		if q.Intn(6) > 0 {
-			source.As = q.one("p", "q", "r", "s", "w", "x", "y", "z", "e", "t")
-			from += " AS " + source.As
-		}
-		if table := q.model[source.Name]; table != nil {
-			for _, column := range table.columns {
-				columns = append(columns, named{source: nameIn(source), column: column})
-			}
-		}
-		if ahead == " JOIN " {
-			from += " ON " + q.expr(api.Bool, 2, columns)
-		}
-	}
-	if q.Intn(2) == 0 {
-		from += " WHERE " + q.expr(api.Bool, 3, columns)
-	}
-	if q.Intn(10) == 0 {
-		return "SELECT *" + from
-	}
-	var items []string
-	for _, kind := range kinds {
-		items = append(items, q.expr(kind, 2, columns)+q.one("", "", " AS x", " AS y"))
-	}
-	return "SELECT " + strings.Join(items, ", ") + from
-}
-
-// expr makes an expr of a kind, now and then one of another kind.
-func (q *queryMaker) expr(kind, deep int, columns []named) string {
-	if q.Intn(150) == 0 {
-		kind = 1 + q.Intn(3)
-	}
-	switch choice := q.Intn(40); {
-	case choice == 0:
-		return "NULL"
-	case choice == 1 && q.Intn(4) == 0:
-		return q.one("a", "b", "n", "s", "f", "e.a", "t.n", "p.a", "q.b", "x.s", "nobody")
-	case choice < 20:
-		if name := q.column(kind, columns); name != "" {
-			return name
-		}
-	}
-	if deep == 0 {
-		return q.literal(kind)
-	}
-	operand := func(kind int) string { return q.expr(kind, deep-1, columns) }
-	switch kind {
-	case api.Int:
-		if q.Intn(6) == 0 {
-			return "-" + q.literal(kind)
-		}
-		return q.one("(", "-(") + operand(kind) + q.one(" + ", " - ", " * ", " / ", " % ") + operand(kind) + ")"
-	case api.Text:
-		return "(" + operand(kind) + " || " + operand(kind) + ")"
-	}
-	switch q.Intn(6) {
-	case 0:
-		return "(" + operand(1+q.Intn(3)) + q.one(" IS NULL)", " IS NOT NULL)")
-	case 1:
-		return "(NOT " + operand(kind) + ")"
-	case 2:
-		return "(" + operand(kind) + q.one(" AND ", " OR ") + operand(kind) + ")"
-	}
-	kind = 1 + q.Intn(3)
-	return "(" + operand(kind) + q.one(" = ", " <> ", " < ", " <= ", " > ", " >= ") + operand(kind) + ")"
-}
-
-func (q *queryMaker) column(kind int, columns []named) string {
-	var names []string
-	for _, column := range columns {
-		if column.column.Kind == kind {
-			names = append(names, column.source+"."+column.column.Name)
-			if q.Intn(10) == 0 {
-				names = append(names, column.column.Name)
-			}
-		}
-	}
-	if len(names) == 0 {
-		return ""
-	}
-	return q.one(names...)
-}
-
-func (q *queryMaker) literal(kind int) string {
-	switch kind {
-	case api.Int:
-		return q.one("0", "1", "1", "2", "2", "3", "7", "9223372036854775807", "3037000500")
-	case api.Text:
-		return q.one("''", "'a'", "'b'", "'B'", "'it''s'", "'\xff'", "'"+times(125, "x")+"'", "'"+times(126, "y")+"'")
-	}
-	return q.one("TRUE", "FALSE")
-}
-
 // What Run answers is what the document says step by step, whatever the texts
 // ahead of it were.
 func TestRunAtRandom(t *testing.T) {
 	errors := map[string]int{}
 	rows := 0
 	for seed := range 24 {
-		q := &queryMaker{newMaker(int64(100 + seed)), model{}}
+		q := newQueryMaker(int64(100 + seed))
 		db := New()
 		for _, text := range []string{"CREATE TABLE e(a INT, b INT)", "CREATE TABLE t(n INT, s TEXT, f BOOL)"} {
 			wantAnswer(t, db, text, q.model.run(text))
@@ -535,5 +478,36 @@ func TestRunAtRandom(t *testing.T) {
 	}
 	if rows < 20000 {
 		t.Errorf("only %d rows came", rows)
+	}
+}
+
+// The same of queries with parts, on tables with few rows: of parts that speak
+// of themselves the model makes all rounds.
+func TestPartsAtRandom(t *testing.T) {
+	met := map[string]int{}
+	for seed := range 20 {
+		q := newQueryMaker(int64(200 + seed))
+		db := ran(q.fewRows()...)
+		for range 300 {
+			text := q.withParts()
+			want := q.model.run(text)
+			if got := shownRun(db, text); got != want {
+				t.Fatalf("seed %d: Run(%q) = %.300s, want %.300s", seed, text, got, want)
+			}
+			switch {
+			case strings.HasPrefix(want, "error"):
+				met[want]++
+			case strings.Contains(text, " AS me"):
+				met["rounds"]++
+			default:
+				met["no rounds"]++
+			}
+			met["rows"] += strings.Count(want, "|")
+		}
+	}
+	for what, least := range map[string]int{"error 3": 100, "error 4": 100, "error 5": 100, "error 6": 100, "error 7": 50, "error 8": 100, "error 9": 10, "error 10": 20, "rounds": 700, "no rounds": 300, "rows": 1500} {
+		if met[what] < least {
+			t.Errorf("%s: met only %d times", what, met[what])
+		}
 	}
 }

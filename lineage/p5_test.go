@@ -136,10 +136,3 @@ func TestP5AheadOfWorkingOut(t *testing.T) {
 	wantErrno(t, db, api.ErrType, "SELECT 1 / 0 || 'a'", "SELECT 1 / 0 UNION SELECT 'a'", "INSERT INTO e VALUES (1 / 0, 2), (1, 'a')")
 	wantErrno(t, db, api.ErrShape, "SELECT 1 / 0 UNION SELECT 1, 2", "INSERT INTO e VALUES (1 / 0, 2), (1)")
 }
-
-// So far a text with WITH is answered with the error of reading or with nothing.
-func TestTextsWithParts(t *testing.T) {
-	db := opened(t)
-	wantAnswer(t, db, "WITH p(a) AS (SELECT 1) SELECT * FROM p", "0")
-	wantAnswer(t, db, "WITH p(a) AS (SELECT 1) SELECT * FROM p p", "error 1 at 40")
-}

@@ -101,3 +101,41 @@ func TestP7MaxRows(t *testing.T) {
 		wantRows(t, db, text, rows)
 	}
 }
+
+func TestP7ColumnsOfParts(t *testing.T) {
+	db := opened(t)
+	for text, want := range map[string]string{
+		"WITH p(x) AS (SELECT a FROM e) SELECT * FROM p":                                                                                                    "x:1|1|2|3",
+		"WITH p(x, y) AS (SELECT NULL, 'a') SELECT y, x FROM p":                                                                                             "y:2,x:1|'a',null",
+		"WITH p(x) AS (SELECT 1 AS y) SELECT x AS z, p.x, (x), x + 0 FROM p":                                                                                "z:1,x:1,x:1,:1|1,1,1,1",
+		"WITH p(x) AS (SELECT 1 UNION ALL SELECT 1 UNION ALL SELECT 2) SELECT u.x, v.x FROM p AS u, p AS v WHERE u.x = v.x":                                 "x:1,x:1|1,1|1,1|1,1|1,1|2,2",
+		"WITH p(x, y, z) AS (SELECT f, s, n FROM t WHERE FALSE) SELECT * FROM p":                                                                            "x:3,y:2,z:1",
+		"WITH p(x) AS (SELECT 1), q(x) AS (SELECT 2) SELECT x FROM p UNION SELECT x FROM q":                                                                 "x:1|1|2",
+		"WITH p(x) AS (SELECT 2 UNION ALL SELECT 1 UNION ALL SELECT NULL) SELECT x, 1 FROM p":                                                               "x:1,:1|null,1|1,1|2,1",
+		"WITH p(x) AS (SELECT 1 UNION ALL SELECT 1 UNION SELECT 2 UNION ALL SELECT 2) SELECT * FROM p":                                                      "x:1|1|2|2",
+		"WITH p(x) AS (SELECT 1), q(y) AS (SELECT x + 1 FROM p), r(z) AS (SELECT y + 1 FROM q) SELECT z FROM r UNION SELECT y FROM q UNION SELECT x FROM p": "z:1|1|2|3",
+	} {
+		wantAnswer(t, db, text, want)
+	}
+}
+
+// The parts are worked out in their order, then the body: all of them, and each
+// but once, whoever speaks of it.
+func TestP7OrderOfParts(t *testing.T) {
+	db := opened(t)
+	filled(t, db, "k", api.MaxRows)
+	value, many, rounds := "(SELECT 1 / 0)", "(SELECT n FROM k UNION ALL SELECT 1)", "(SELECT 1 UNION ALL SELECT %.x FROM %)"
+	for first, want := range map[string]api.Errno{value: api.ErrValue, many: api.ErrMany, rounds: api.ErrRounds} {
+		for _, second := range []string{value, many, rounds, "(SELECT x FROM p)", "(SELECT 1)"} {
+			for _, body := range []string{"SELECT 1", "SELECT 1 / 0", "SELECT 1 FROM k, k AS l", "SELECT p.x FROM p, q"} {
+				text := "WITH RECURSIVE p(x) AS " + strings.ReplaceAll(first, "%", "p") + ", q(x) AS " + strings.ReplaceAll(second, "%", "q") + " " + body
+				wantErrno(t, db, want, text)
+			}
+		}
+		for _, body := range []string{"SELECT 1", "SELECT 1 / 0", "SELECT 1 FROM k, k AS l"} {
+			wantErrno(t, db, want, "WITH RECURSIVE p(x) AS (SELECT 7), q(x) AS "+strings.ReplaceAll(first, "%", "q")+" "+body)
+		}
+	}
+	wantErrno(t, db, api.ErrValue, "WITH p(x) AS (SELECT n FROM k) SELECT 1 / (x - 1000) FROM p", "WITH p(x) AS (SELECT 1), q(y) AS (SELECT 1 / (x - 1) FROM p) SELECT x FROM p")
+	wantErrno(t, db, api.ErrMany, "WITH p(x) AS (SELECT n FROM k) SELECT 1 FROM p, p AS q", "WITH p(x) AS (SELECT n FROM k) SELECT x FROM p UNION ALL SELECT 0")
+}

@@ -104,6 +104,15 @@ func wantRows(t *testing.T, db *DB, text string, rows int) {
 	}
 }
 
+// ran is a database that ran these texts, whatever came of them.
+func ran(texts ...string) *DB {
+	db := New()
+	for _, text := range texts {
+		shownRun(db, text)
+	}
+	return db
+}
+
 // filled makes a table with one column n, and the numbers from 1 to rows in it.
 func filled(t *testing.T, db *DB, table string, rows int) {
 	t.Helper()

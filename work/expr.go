@@ -7,8 +7,9 @@ import (
 )
 
 // Row is a row of a select as far as its sources stand side by side: of each of
-// them the row that is in it.
-type Row [api.MaxSources][]api.Value
+// them the number of the row that is in it. The numbers are small, since there
+// may be many rows to lay by.
+type Row [api.MaxSources]int32
 
 // Expr is an expr that has been checked.
 type Expr interface {
@@ -22,18 +23,20 @@ type Literal struct {
 }
 
 // Of is the value itself.
-func (l Literal) Of(*Row) (api.Value, api.Errno) {
+func (l *Literal) Of(*Row) (api.Value, api.Errno) {
 	return l.Value, api.OK
 }
 
-// Column is a column of a source; both are counted from 0.
+// Column is a column of a source, which has the rows of a table; both are
+// counted from 0.
 type Column struct {
+	Table          *Table
 	Source, Column int
 }
 
 // Of is what the row has in that column.
-func (c Column) Of(row *Row) (api.Value, api.Errno) {
-	return row[c.Source][c.Column], api.OK
+func (c *Column) Of(row *Row) (api.Value, api.Errno) {
+	return c.Table.Rows[row[c.Source]][c.Column], api.OK
 }
 
 // Binary is an operation on two operands.
@@ -43,7 +46,7 @@ type Binary struct {
 }
 
 // Of works out both sides, whatever the left one is.
-func (b Binary) Of(row *Row) (api.Value, api.Errno) {
+func (b *Binary) Of(row *Row) (api.Value, api.Errno) {
 	left, errno := b.Left.Of(row)
 	if errno != api.OK {
 		return api.Value{}, errno
@@ -61,7 +64,7 @@ type Not struct {
 }
 
 // Of is the other truth.
-func (n Not) Of(row *Row) (api.Value, api.Errno) {
+func (n *Not) Of(row *Row) (api.Value, api.Errno) {
 	operand, errno := n.Operand.Of(row)
 	if errno != api.OK {
 		return api.Value{}, errno
@@ -75,7 +78,7 @@ type IsNull struct {
 }
 
 // Of is true or false, and never null.
-func (n IsNull) Of(row *Row) (api.Value, api.Errno) {
+func (n *IsNull) Of(row *Row) (api.Value, api.Errno) {
 	operand, errno := n.Operand.Of(row)
 	if errno != api.OK {
 		return api.Value{}, errno

@@ -17,8 +17,17 @@ type Table struct {
 
 // Query is a query that has been checked; Columns are those of its answer.
 type Query struct {
+	Parts   []Part
 	Columns []tree.Column
 	Body    Body
+}
+
+// Part is a part of a query. Table is what its name stands for, and has no rows
+// until the part has been worked out.
+type Part struct {
+	Table    *Table
+	OfItself bool // it speaks of itself
+	Body     Body
 }
 
 // Body is a select and what is united with it.
@@ -33,22 +42,15 @@ type Union struct {
 	Select Select
 }
 
-// Select is a select; Where is nil, if there is none.
-type Select struct {
-	Sources []Source
-	Where   Expr
-	Items   []Expr
-}
-
-// Source is a source of a select; On is nil, if there is none.
-type Source struct {
-	Table *Table
-	On    Expr
-}
-
 // Answer works out a query (P7).
 func (q Query) Answer() (api.Answer, api.Errno) {
-	rows, errno := q.Body.rows()
+	d := &desk{}
+	for _, part := range q.Parts {
+		if errno := part.workOut(d); errno != api.OK {
+			return api.Answer{}, errno
+		}
+	}
+	rows, errno := q.Body.rows(d)
 	if errno != api.OK {
 		return api.Answer{}, errno
 	}
@@ -61,13 +63,25 @@ func (q Query) Answer() (api.Answer, api.Errno) {
 	return answer, api.OK
 }
 
-func (b Body) rows() ([][]api.Value, api.Errno) {
-	all, errno := b.First.rows()
+func (p Part) workOut(d *desk) api.Errno {
+	rows := p.Body.rows
+	if p.OfItself {
+		rows = p.rounds
+	}
+	var errno api.Errno
+	p.Table.Rows, errno = rows(d)
+	return errno
+}
+
+// rows are in a list of their own, and not in the desk's.
+func (b Body) rows(d *desk) ([][]api.Value, api.Errno) {
+	first, errno := b.First.rows(d)
 	if errno != api.OK {
 		return nil, errno
 	}
+	all := slices.Clone(first)
 	for _, union := range b.Unions {
-		more, errno := union.Select.rows()
+		more, errno := union.Select.rows(d)
 		if errno != api.OK {
 			return nil, errno
 		}
@@ -85,76 +99,4 @@ func (b Body) rows() ([][]api.Value, api.Errno) {
 func eachOnce(rows [][]api.Value) [][]api.Value {
 	slices.SortFunc(rows, values.CompareRows)
 	return slices.CompactFunc(rows, slices.Equal)
-}
-
-// rows works out a select step by step (P8).
-func (s Select) rows() ([][]api.Value, api.Errno) {
-	rows := []Row{{}}
-	for i, source := range s.Sources {
-		if len(rows)*len(source.Table.Rows) > api.MaxMade {
-			return nil, api.ErrMany
-		}
-		kept, errno := where(beside(rows, i, source.Table.Rows), source.On)
-		if errno != api.OK {
-			return nil, errno
-		}
-		rows = kept
-	}
-	rows, errno := where(rows, s.Where)
-	if errno != api.OK {
-		return nil, errno
-	}
-	if len(rows) > api.MaxRows {
-		return nil, api.ErrMany
-	}
-	return spread(rows, func(made [][]api.Value, row *Row) ([][]api.Value, api.Errno) {
-		return layBehind(made, s.Items, row)
-	})
-}
-
-// beside lays each row of a source beside each row so far.
-func beside(rows []Row, source int, more [][]api.Value) []Row {
-	made := make([]Row, 0, len(rows)*len(more))
-	for _, row := range rows {
-		for _, next := range more {
-			row[source] = next
-			made = append(made, row)
-		}
-	}
-	return made
-}
-
-// where leaves the rows for which a condition is true; without one, all.
-func where(rows []Row, condition Expr) ([]Row, api.Errno) {
-	if condition == nil {
-		return rows, api.OK
-	}
-	return spread(rows, func(kept []Row, row *Row) ([]Row, api.Errno) {
-		value, errno := condition.Of(row)
-		if values.IsTrue(value) {
-			kept = append(kept, *row)
-		}
-		return kept, errno
-	})
-}
-
-// Rows works out rows of exprs that name no column.
-func Rows(exprs [][]Expr) ([][]api.Value, api.Errno) {
-	return spread(exprs, func(made [][]api.Value, row *[]Expr) ([][]api.Value, api.Errno) {
-		return layBehind(made, *row, &Row{})
-	})
-}
-
-// layBehind lays a row of exprs behind the rows that are made, in memory of its
-// own: it may be handed out.
-func layBehind(made [][]api.Value, exprs []Expr, row *Row) ([][]api.Value, api.Errno) {
-	next := make([]api.Value, len(exprs))
-	for i, expr := range exprs {
-		value, errno := expr.Of(row)
-		if errno != api.OK {
-			return nil, errno
-		}
-		next[i] = value
-	}
-	return append(made, next), api.OK
 }
